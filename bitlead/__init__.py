@@ -1,0 +1,1 @@
+"""Bitlead: bits of a word led to other places, by rows of deeds and by halves."""
