@@ -48,3 +48,57 @@ def bits_of(word, width):
 
 def word_of(bits):
     return sum(bit * 2 ** place for place, bit in enumerate(bits))
+
+
+def drawn_swap(draw, width):
+    by = draw.randrange(1, width)
+    mask = 0
+    for place in range(width - by):
+        meets = place >= by and mask // 2 ** (place - by) % 2 == 1
+        if not meets and draw.random() < 0.5:
+            mask += 2 ** place
+    return ("swap", mask, by)
+
+
+def drawn_copy(draw, width):
+    by = draw.choice([by for by in range(1 - width, width) if by != 0])
+    places = [place for place in range(width) if place + by in range(width) and draw.random() < 0.5]
+    return ("copy", sum(2 ** place for place in places), by)
+
+
+def drawn_deed(draw, width, name):
+    if name in ("left", "right"):
+        return (name, draw.randrange(width + 1))
+    if name == "turn":
+        return (name, draw.randrange(width))
+    if name == "swap":
+        return drawn_swap(draw, width)
+    if name == "copy":
+        return drawn_copy(draw, width)
+    return (name, drawn_word(draw, width))
+
+
+def some_deeds(draw, width):
+    masks = some_words(draw, width)
+    deeds = [(name, mask) for name in ("and", "or", "gather", "strew") for mask in masks]
+    deeds += [(name, by) for name in ("left", "right") for by in range(width + 1)]
+    deeds += [("turn", by) for by in range(width)]
+    for by in range(1, width):
+        deeds += whole_pair_deeds(width, by)
+        deeds += [drawn_swap(draw, width), drawn_copy(draw, width)]
+    return deeds
+
+
+def whole_pair_deeds(width, by):
+    # No place, one place at either end, and all that may stand.
+    room = 2 ** (width - by) - 1
+    swaps = {0, 1, 2 ** (width - by - 1), sum(2 ** place for place in range(width - by) if place // by % 2 == 0)}
+    copies = {0, 1, 2 ** (width - by - 1), room}
+    deeds = [("swap", mask, by) for mask in sorted(swaps)]
+    deeds += [("copy", mask, by) for mask in sorted(copies)]
+    return deeds + [("copy", mask * 2 ** by, -by) for mask in sorted(copies)]
+
+
+def drawn_row(draw, width, many):
+    names = ["and", "or", "left", "right", "turn", "gather", "strew"] + (["swap", "copy"] if width > 1 else [])
+    return [drawn_deed(draw, width, draw.choice(names)) for turn in range(many)]
