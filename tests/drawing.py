@@ -3,6 +3,8 @@
 import random
 
 WIDTHS = (1, 2, 3, 8, 33, 64)
+HALVED = (1, 2, 4, 8, 16, 32, 64)
+UNHALVED = tuple(width for width in range(1, 65) if width not in HALVED)
 
 # Things that are no leading, no deed and no row of any width (a row of no deeds is left out).
 ODD_THINGS = (
@@ -35,6 +37,25 @@ def drawn_even(draw, width):
     places = list(range(width))
     draw.shuffle(places)
     return tuple(places)
+
+
+def some_evens(draw, width):
+    staying = tuple(range(width))
+    half = width // 2
+    evens = [staying, staying[::-1], staying[1:] + staying[:1], staying[half:] + staying[:half]]
+    evens.append(staying[::2] + staying[1::2])
+    return evens + [drawn_even(draw, width) for turn in range(12)]
+
+
+def some_unevens(draw, width):
+    # A bit copied over another one, a bit set to 0, a bit set to 1, and all bits so.
+    unevens = [(-1,) * width, (-2,) * width]
+    for turn in range(4):
+        even = drawn_even(draw, width)
+        at = draw.randrange(width)
+        others = (-1, -2) if width == 1 else (-1, -2, even[at - 1])
+        unevens += [even[:at] + (other,) + even[at + 1:] for other in others]
+    return unevens + ([(0,) * width, (width - 1,) * width] if width > 1 else [])
 
 
 def bits_of(word, width):

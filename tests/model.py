@@ -69,6 +69,53 @@ def word_done(width, deed, word):
     return word_of(bits_done(bits_of(word, width), deed))
 
 
+def leading_of_row(width, row):
+    # Which place a told bit comes from shows when that place alone holds the bit 1.
+    def made_of(word):
+        for deed in row:
+            word = word_done(width, deed, word)
+        return bits_of(word, width)
+
+    entries = [-2 if bit == 1 else -1 for bit in made_of(0)]
+    for source in range(width):
+        for place, bit in enumerate(made_of(2 ** source)):
+            if bit == 1 and entries[place] == -1:
+                entries[place] = source
+    return tuple(entries)
+
+
+def is_number(thing, many):
+    return type(thing) is int and thing in range(many)
+
+
+def is_paper(leading, thing):
+    width = len(leading)
+    half = width // 2
+    if type(thing) is not tuple:
+        return False
+    if width == 1:
+        return thing == ()
+    if len(thing) != 4 or not all(is_number(mask, 2 ** half) for mask in thing[:2]):
+        return False
+    if not all(is_half(half, part) for part in thing[2:]):
+        return False
+    return halves_led(thing) == leading and all(is_paper(part[0], part[1]) for part in thing[2:])
+
+
+def is_half(half, part):
+    if type(part) is not tuple or len(part) != 2 or type(part[0]) is not tuple or len(part[0]) != half:
+        return False
+    return all(is_number(entry, half) for entry in part[0]) and len(set(part[0])) == half
+
+
+def halves_led(paper):
+    lower, upper = paper[2][0], paper[3][0]
+    half = len(lower)
+    bits = bits_done(list(range(2 * half)), ("swap", paper[0], half))
+    bits = [bits[place] for place in lower] + [bits[half + place] for place in upper]
+    return tuple(bits_done(bits, ("swap", paper[1], half)))
+
+
 def all_of_small_numbers(width):
     # All tuples of the nine words with numbers somewhat beyond the bounds too, in the order told of all_deeds.
     parts = range(-2, 2 ** width + 3)

@@ -22,6 +22,8 @@ METHODS = """append clear copy count endswith extend find get index insert isaln
 WORDS_OUT = """type typing typing_extensions enum Enum IntEnum StrEnum Flag IntFlag Generic Protocol ABC ABCMeta
     namedtuple NamedTuple TypedDict TYPE_CHECKING abstractmethod""".split()
 WORDS_OUT_WITHIN = ("dataclass", "overload", "contextmanager")
+WALKERS = ("zip", "enumerate", "reversed", "range")
+WALKED_METHODS = ("items", "keys", "values")
 NAMES_OUT = ("register", "mro", "elements", "open", "input", "version_info", "with_traceback", "add_note")
 
 
@@ -37,6 +39,29 @@ def text_of(name):
 
 def tree_of(name):
     return ast.parse(text_of(name))
+
+
+def is_call_of(node, names):
+    return isinstance(node, ast.Call) and isinstance(node.func, ast.Name) and node.func.id in names
+
+
+def is_walker(node):
+    if is_call_of(node, WALKERS):
+        return True
+    return isinstance(node, ast.Call) and isinstance(node.func, ast.Attribute) and node.func.attr in WALKED_METHODS
+
+
+def walked_here(node):
+    # The parts of a node where a walker may stand.
+    if isinstance(node, (ast.For, ast.comprehension)):
+        return [node.iter]
+    if is_call_of(node, ("zip", "enumerate")):
+        return node.args
+    if is_call_of(node, ("list", "tuple", "dict", "sorted", "sum", "any", "all")):
+        return node.args[:1]
+    if is_call_of(node, ("min", "max")) and len(node.args) == 1:
+        return node.args
+    return []
 
 
 def bound_names(tree):
@@ -141,6 +166,21 @@ class Language(unittest.TestCase):
         for where, node in self.each_node():
             if isinstance(node, ast.Call) and isinstance(node.func, ast.Attribute):
                 self.assertIn(node.func.attr, METHODS, where)
+
+    def test_what_is_walked_is_walked_at_once(self):
+        for name in files():
+            nodes = list(ast.walk(tree_of(name)))
+            fine = [part for node in nodes for part in walked_here(node)]
+            for node in nodes:
+                self.assertTrue(not is_walker(node) or node in fine, f"{name}:{getattr(node, 'lineno', 0)}")
+
+    def test_nothing_stands_by_itself_but_a_call(self):
+        for name in files():
+            tree = tree_of(name)
+            self.assertIsNotNone(ast.get_docstring(tree), name)
+            for node in ast.walk(tree):
+                if isinstance(node, ast.Expr) and node is not tree.body[0]:
+                    self.assertIsInstance(node.value, ast.Call, f"{name}:{node.lineno}")
 
     def test_imports(self):
         for name in files():
