@@ -128,3 +128,77 @@ def all_of_small_numbers(width):
             else:
                 deeds.append((name, part))
     return deeds
+
+
+def mask_from(places):
+    return sum(2 ** place for place in set(places))
+
+
+def both_as_one(width, one, other):
+    # The deed that two deeds go together as, None where they don't.
+    names = (one[0], other[0])
+    if names in (("left", "left"), ("right", "right")):
+        return (one[0], width if one[1] + other[1] > width else one[1] + other[1])
+    if names == ("turn", "turn"):
+        return ("turn", one[1] + other[1] - (width if one[1] + other[1] >= width else 0))
+    here, there = places_of(one[1]), places_of(other[1])
+    if names == ("and", "and"):
+        return ("and", mask_from(at for at in here if at in there))
+    if names == ("or", "or"):
+        return ("or", mask_from(here + there))
+    if names == ("swap", "swap") and one[2] == other[2]:
+        if may_stand(width, ("swap", mask_from(here + there), one[2])):
+            return ("swap", mask_from(at for at in here + there if (at in here) != (at in there)), one[2])
+    if names == ("gather", "strew") and here == there:
+        return ("and", mask_from(here))
+    if names == ("strew", "gather") and here == there:
+        return ("and", mask_from(range(len(here))))
+    if names == ("gather", "gather"):
+        return ("gather", mask_from(here[at] for at in there if at < len(here)))
+    if names == ("strew", "strew"):
+        return ("strew", mask_from(there[at] for at in here if at < len(there)))
+    return None
+
+
+def one_behind_other(one, other):
+    return tuple(entry if entry < 0 else one[entry] for entry in other)
+
+
+def fewest_numbers(width, menu):
+    # All leadings of rows of just so many deeds, number by number, until a number brings no new one.
+    steps = {leading_of_row(width, [deed]) for deed in menu}
+    numbers = {tuple(range(width)): 0}
+    many = 0
+    last = {tuple(range(width))}
+    while last:
+        many += 1
+        last = {one_behind_other(leading, step) for leading in last for step in steps} - set(numbers)
+        numbers.update((leading, many) for leading in last)
+    return numbers
+
+
+def is_of_width(width, thing):
+    if type(thing) is not tuple or len(thing) != width:
+        return False
+    return all(type(entry) is int and entry in range(-2, width) for entry in thing)
+
+
+def is_shown(leading, menu, row, paper):
+    width = len(leading)
+    if type(row) not in (list, tuple) or type(paper) not in (list, tuple) or len(row) != len(paper):
+        return False
+    # Told as texts, True is no 1.
+    if not all(repr(deed) in [repr(other) for other in menu] for deed in row):
+        return False
+    if leading_of_row(width, row) != leading:
+        return False
+    for part in paper:
+        if type(part) not in (list, tuple) or not all(is_of_width(width, thing) for thing in part):
+            return False
+        if leading in part:
+            return False
+    if len(paper) > 0 and tuple(range(width)) not in paper[0]:
+        return False
+    steps = [leading_of_row(width, [deed]) for deed in menu]
+    return all(one_behind_other(ahead, step) in paper[number + 1]
+               for number in range(len(paper) - 1) for ahead in paper[number] for step in steps)
