@@ -1,5 +1,6 @@
 """Drawn words and leadings, the same in every run, and things of all kinds."""
 
+import itertools
 import random
 
 WIDTHS = (1, 2, 3, 8, 33, 64)
@@ -27,6 +28,10 @@ def some_words(draw, width):
     every_second = sum(2 ** place for place in range(0, width, 2))
     ends = [0, 2 ** width - 1, 1, 2 ** (width - 1), every_second, 2 ** width - 1 - every_second]
     return ends + [drawn_word(draw, width) for turn in range(8)]
+
+
+def all_leadings(width):
+    return list(itertools.product(range(-2, width), repeat=width))
 
 
 def drawn_leading(draw, width):

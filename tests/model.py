@@ -84,6 +84,11 @@ def leading_of_row(width, row):
     return tuple(entries)
 
 
+def led_by_places(leading, word):
+    bits = bits_of(word, len(leading))
+    return word_of([{-1: 0, -2: 1}[entry] if entry < 0 else bits[entry] for entry in leading])
+
+
 def is_number(thing, many):
     return type(thing) is int and thing in range(many)
 

@@ -1,12 +1,11 @@
-import itertools
 import unittest
 
 from bitlead.anyrow import any_row, deeds_for
 from bitlead.errors import LeadError, Unhalved
 from bitlead.leadings import led
 from bitlead.rows import is_row, row_done, row_leading
-from tests.drawing import (HALVED, UNHALVED, drawer, drawn_leading, drawn_word, some_evens, some_unevens,
-                           some_words)
+from tests.drawing import (HALVED, UNHALVED, all_leadings, drawer, drawn_leading, drawn_word, some_evens,
+                           some_unevens, some_words)
 from tests.model import leading_of_row
 
 NUMBERS = {1: 2, 2: 5, 4: 10, 8: 15, 16: 20, 32: 25, 64: 30}
@@ -23,7 +22,7 @@ def with_few_sources(draw, width):
 
 def asked_leadings(draw, width):
     if width <= 4:
-        return list(itertools.product(range(-2, width), repeat=width))
+        return all_leadings(width)
     asked = some_evens(draw, width) + some_unevens(draw, width)
     asked += [(place,) * width for place in (0, 1, width // 2, width - 1)]
     asked += [(0,) + (width - 1,) * (width - 1), (width - 1,) * (width - 1) + (0,)]

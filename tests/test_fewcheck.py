@@ -4,17 +4,13 @@ import unittest
 from bitlead.fewcheck import shows_fewest
 from bitlead.fewest import fewest, fewest_paper
 from bitlead.rows import all_deeds, row_leading
-from tests.drawing import ODD_THINGS, drawer
+from tests.drawing import ODD_THINGS, all_leadings, drawer
 from tests.model import fewest_numbers, is_shown
 
 MENU = [("turn", 1), ("copy", 1, 1)]
 LEADING = (0, 0, 0)
 NO_LEADINGS = (None, True, False, 0, 1, "", "012", (), [], (0,), (0, 1), (0, 1, 2, 3), [0, 1, 2], (0, 1, 3), (0, 1, -3),
                (0, True, 2), (False, 1, 2), (0, "1", 2), (0, None, 2), ((0,), 1, 2), ([0], 1, 2), ((0, 1, 2),))
-
-
-def all_leadings(width):
-    return list(itertools.product(range(-2, width), repeat=width))
 
 
 def just_needed(leading, menu, many):

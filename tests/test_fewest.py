@@ -5,12 +5,8 @@ from bitlead.fewcheck import shows_fewest
 from bitlead.fewest import fewest, fewest_paper, how_few, reach
 from bitlead.leadings import is_leading
 from bitlead.rows import all_deeds, row_leading
-from tests.drawing import drawer
+from tests.drawing import all_leadings, drawer
 from tests.model import fewest_numbers, is_shown, leading_of_row
-
-
-def all_leadings(width):
-    return list(itertools.product(range(-2, width), repeat=width))
 
 
 def some_menus(draw, width):

@@ -5,7 +5,8 @@ from bitlead.errors import LeadError, Uneven, Unhalved
 from bitlead.halfcheck import shows_halves
 from bitlead.halving import even_row, halves
 from bitlead.rows import is_row, row_done, row_leading
-from tests.drawing import HALVED, UNHALVED, bits_of, drawer, some_evens, some_unevens, some_words, word_of
+from tests.drawing import (HALVED, UNHALVED, all_leadings, bits_of, drawer, some_evens, some_unevens, some_words,
+                           word_of)
 from tests.model import is_paper, leading_of_row
 
 STEPS = {1: [], 2: [1], 4: [2, 1, 2], 8: [4, 2, 1, 2, 4], 16: [8, 4, 2, 1, 2, 4, 8],
@@ -132,7 +133,7 @@ class Refused(unittest.TestCase):
             for leading in some_unevens(draw, width):
                 self.check_refused(Uneven, leading)
         for width in (1, 2, 4):
-            for leading in itertools.product(range(-2, width), repeat=width):
+            for leading in all_leadings(width):
                 if sorted(leading) != list(range(width)):
                     self.check_refused(Uneven, leading)
 

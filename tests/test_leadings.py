@@ -3,17 +3,9 @@ import unittest
 
 from bitlead.errors import LeadError, Uneven
 from bitlead.leadings import is_even, is_leading, kept_by, led, staying, then, turned_back
-from tests.drawing import (ODD_THINGS, WIDTHS, bits_of, drawer, drawn_even, drawn_leading, drawn_word, some_words,
-                           word_of)
-
-
-def all_leadings(width):
-    return list(itertools.product(range(-2, width), repeat=width))
-
-
-def led_by_places(leading, word):
-    bits = bits_of(word, len(leading))
-    return word_of([{-1: 0, -2: 1}[entry] if entry < 0 else bits[entry] for entry in leading])
+from tests.drawing import (ODD_THINGS, WIDTHS, all_leadings, drawer, drawn_even, drawn_leading, drawn_word,
+                           some_words, word_of)
+from tests.model import led_by_places
 
 
 def comes_to(leading, place):

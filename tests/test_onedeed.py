@@ -1,10 +1,9 @@
-import itertools
 import unittest
 
 from bitlead.deeds import deed_leading, is_deed
 from bitlead.onedeed import one_deed
 from bitlead.rows import all_deeds
-from tests.drawing import WIDTHS, drawer, drawn_deed, drawn_even, some_deeds
+from tests.drawing import WIDTHS, all_leadings, drawer, drawn_deed, drawn_even, some_deeds
 from tests.model import NAMES, all_of_small_numbers, may_stand
 
 
@@ -17,7 +16,7 @@ class OneDeed(unittest.TestCase):
     def test_every_leading_of_small_widths(self):
         for width in (1, 2, 3, 4):
             there = {deed_leading(width, deed) for deed in all_deeds(width)}
-            for leading in itertools.product(range(-2, width), repeat=width):
+            for leading in all_leadings(width):
                 if leading in there:
                     self.check_leads(leading)
                 else:
